@@ -1,0 +1,1 @@
+"""Linkedfaults: the least chance that nothing happens, in all worlds."""

@@ -1,0 +1,68 @@
+"""What several tests have in common."""
+
+import random
+from fractions import Fraction
+from itertools import combinations
+
+from linkedfaults.systems import System
+from linkedfaults.worlds import World
+
+# Objects of all kinds that are neither names nor fractions nor sets nor pairs of faults.
+ODD_THINGS = (None, True, False, "", "A", "1a", "a b", [], (), {}, {"a": 1}, [[]], [None], (1, 0), (1, -2), (1, 2, 3),
+              ("a",), (True, 2), (1, True), (1, None), ("1", "2"), System({}), World([], {(): 1}), 10 ** 6000 + 7)
+
+
+def caught(work, *told, **named):
+    """The error that a call raises; None if it raises none."""
+    try:
+        work(*told, **named)
+    except ValueError as error:
+        return error
+    return None
+
+
+def seen(error):
+    """The class and the attributes of an error, to compare."""
+    return None if error is None else (error.__class__.__name__, vars(error))
+
+
+def all_sets(names):
+    """All sets of names, in order, as the document orders them."""
+    return [some for many in range(len(names) + 1) for some in combinations(sorted(names), many)]
+
+
+def random_share(chance, most=6):
+    bottom = chance.randint(1, most)
+    return (chance.randint(0, bottom), bottom)
+
+
+def random_system(chance, names):
+    """A system of the names, with shares and links by chance."""
+    links = [pair for pair in combinations(names, 2) if chance.random() < 0.4]
+    return System({name: random_share(chance) for name in names}, links)
+
+
+def random_world(chance, names):
+    """A world of the names by chance, often with sets that never come up."""
+    sets = all_sets(names)
+    tops = [chance.choice((0, 0, 1, 2, 3)) for _ in sets]
+    tops[chance.randrange(len(tops))] += 1
+    return World(names, {some: (top, sum(tops)) for some, top in zip(sets, tops)})
+
+
+def shares_of(world):
+    """The outcomes of a world, with Python's own fractions."""
+    return {frozenset(some): Fraction(*share) for some, share in world.outcomes().items()}
+
+
+def together(world, names):
+    """The share of the cases in which all of the names happen, reckoned anew."""
+    return sum([share for some, share in shares_of(world).items() if some >= set(names)], Fraction(0))
+
+
+def linked(system, one, other):
+    return tuple(sorted([one, other])) in system.links()
+
+
+def by_chance(seed):
+    return random.Random(seed)

@@ -1,0 +1,53 @@
+"""The interface: what is listed exists, is defined where it is listed, and takes what is listed."""
+
+import importlib
+import inspect
+import unittest
+
+FUNCTIONS = {
+    "systems": {"free_sets": "system"},
+    "fitting": {"unfit": "system, world", "fits": "system, world", "fits_groups": "system, world",
+                "fits_loosely": "system, world"},
+}
+CLASSES = {
+    ("systems", "System"): {
+        "__init__": "self, shares, links=()", "shares": "self", "links": "self", "near": "self, name",
+        "changed": "self, name, share", "tied": "self, one, other", "untied": "self, one, other",
+        "more": "self, name, share, near=()", "scaled": "self, number", "split": "self, name, shares",
+        "__getitem__": "self, at", "__len__": "self", "__contains__": "self, x", "__iter__": "self",
+        "__eq__": "self, other", "__add__": "self, other", "__mul__": "self, other", "__and__": "self, other",
+        "__sub__": "self, other"},
+    ("worlds", "World"): {
+        "__init__": "self, names, outcomes", "names": "self", "outcomes": "self",
+        "chance": "self, happen, stay=()", "none": "self, names=None", "given": "self, stay", "quiet": "names",
+        "__getitem__": "self, at", "__len__": "self", "__iter__": "self", "__eq__": "self, other",
+        "__mul__": "self, other", "__and__": "self, other"},
+}
+
+
+class InterfaceTest(unittest.TestCase):
+
+    def test_functions(self):
+        for place, functions in FUNCTIONS.items():
+            module = importlib.import_module(f"linkedfaults.{place}")
+            for name, told in functions.items():
+                work = getattr(module, name)
+                self.assertEqual((work.__module__, work.__name__), (module.__name__, name))
+                self.assertEqual(str(inspect.signature(work)), f"({told})")
+
+    def test_classes(self):
+        for (place, name), methods in CLASSES.items():
+            module = importlib.import_module(f"linkedfaults.{place}")
+            kind = getattr(module, name)
+            self.assertEqual((kind.__module__, kind.__name__), (module.__name__, name))
+            for method, told in methods.items():
+                self.assertIn(method, vars(kind))
+                work = vars(kind)[method]
+                if method == "quiet":
+                    self.assertIsInstance(work, staticmethod)
+                    work = work.__func__
+                self.assertEqual(str(inspect.signature(work)), f"({told})")
+
+
+if __name__ == "__main__":
+    unittest.main()
