@@ -5,7 +5,7 @@ from linkedfaults.fraction import lowest
 LETTERS = "abcdefghijklmnopqrstuvwxyz"
 FIGURES = "0123456789"
 LONGEST = 8
-DEEPEST = 8
+MOST = 1000000
 
 
 def is_integer(thing):
@@ -64,15 +64,35 @@ def set_of(thing, names):
     return tuple(some)
 
 
-def copied(thing, depth=DEEPEST):
-    """A copy of any object that later changes to the lists and dicts in it don't reach."""
-    # An error has to be made of an object however deep it is, also of one that contains itself.
-    if depth == 0:
-        return thing
-    if isinstance(thing, list):
-        return [copied(part, depth - 1) for part in thing]
-    if isinstance(thing, tuple):
-        return tuple([copied(part, depth - 1) for part in thing])
+def contents(thing):
+    """The list of what a list, a tuple or a dict contains, its keys left out; an empty one of anything else."""
     if isinstance(thing, dict):
-        return {key: copied(thing[key], depth - 1) for key in thing}
-    return thing
+        return list(thing.values())
+    return list(thing) if is_list(thing) else []
+
+
+def refilled(thing, within):
+    """A list, a tuple or a dict like this one, but with these contents; anything else as it is."""
+    if isinstance(thing, dict):
+        return {key: within[at] for at, key in enumerate(thing)}
+    if isinstance(thing, tuple):
+        return tuple(within)
+    return within if isinstance(thing, list) else thing
+
+
+def copied(thing):
+    """A copy of any object that later changes to the lists and dicts in it don't reach."""
+    # Not by recursion: an object may be deeper than Python lets functions call one another.
+    found = [thing]
+    spans = []
+    # What contains itself has no end, but an error has to be made of it, too.
+    while len(spans) < len(found) < MOST:
+        within = contents(found[len(spans)])
+        spans.append((len(found), len(found) + len(within)))
+        found.extend(within)
+    copies = list(found)
+    # What contains something stands ahead of it, so the copies of its contents are there first.
+    for at in reversed(range(len(spans))):
+        first, last = spans[at]
+        copies[at] = refilled(found[at], copies[first:last])
+    return copies[0]
