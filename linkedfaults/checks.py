@@ -1,6 +1,7 @@
-"""Checks of what callers tell that systems and worlds have in common."""
+"""Checks of what callers tell that several files have in common."""
 
-from linkedfaults.errors import Clash, NoFault
+from linkedfaults.errors import BadShare, Clash, NoFault
+from linkedfaults.kinds import share_of
 
 
 def known(things, names):
@@ -16,3 +17,11 @@ def check_apart(names, others):
     for name in names:
         if name in others:
             raise Clash(name)
+
+
+def told_chance(chance):
+    """The share above 0 that any object tells; BadShare if it tells none."""
+    told = share_of(chance)
+    if told is None or told[0] == 0:
+        raise BadShare(chance)
+    return told

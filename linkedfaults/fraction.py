@@ -14,6 +14,11 @@ def plus(one, other):
     return lowest(one[0] * other[1] + other[0] * one[1], one[1] * other[1])
 
 
+def minus(one, other):
+    """The first fraction less the second one."""
+    return plus(one, (-other[0], other[1]))
+
+
 def times(one, other):
     """The product of two fractions."""
     return lowest(one[0] * other[0], one[1] * other[1])
@@ -35,3 +40,11 @@ def summed(parts):
     for part in parts:
         bottom = lcm(bottom, part[1])
     return lowest(sum([part[0] * (bottom // part[1]) for part in parts]), bottom)
+
+
+def multiplied(parts):
+    """The product of a list of fractions."""
+    product = (1, 1)
+    for part in parts:
+        product = times(product, part)
+    return product

@@ -3,6 +3,7 @@
 import random
 from fractions import Fraction
 from itertools import combinations
+from math import prod
 
 from linkedfaults.systems import System
 from linkedfaults.worlds import World
@@ -62,6 +63,50 @@ def together(world, names):
 
 def linked(system, one, other):
     return tuple(sorted([one, other])) in system.links()
+
+
+def long_share(chance, top=3):
+    """A share with a bottom of thirty figures, at most about 1 / top."""
+    bottom = chance.randint(10 ** 29, 10 ** 30 - 1)
+    return (chance.randint(0, bottom // top), bottom)
+
+
+def long_system(chance, names, top):
+    """A system of the names, with shares of thirty figures and links by chance."""
+    links = [link for link in combinations(names, 2) if chance.random() < 0.4]
+    return System({name: long_share(chance, top) for name in names}, links)
+
+
+def some_systems(seed, many, most):
+    """Systems of up to so many faults, safe ones and others, also with shares 0 and 1."""
+    chance = by_chance(seed)
+    for _ in range(many):
+        names = "abcdefgh"[:chance.randint(most // 3, most)]
+        system = random_system(chance, names)
+        size = chance.choice((1, (2, 3), (1, 3)))
+        yield chance.choice((system.scaled(size), long_system(chance, names, chance.choice((1, 2, 3)))))
+
+
+def pair(number):
+    """One of Python's fractions, as the package tells it."""
+    return (number.numerator, number.denominator)
+
+
+def sum_by_words(system, names):
+    """The free sum of names, reckoned straight by the words of the document."""
+    total = Fraction(0)
+    for some in all_sets(names):
+        if not any(linked(system, one, other) for one, other in combinations(some, 2)):
+            total += prod([-Fraction(*system[name]) for name in some], start=Fraction(1))
+    return total
+
+
+def safe_by_words(system, names):
+    return all(sum_by_words(system, some) > 0 for some in all_sets(names))
+
+
+def least_by_words(system, names):
+    return sum_by_words(system, names) if safe_by_words(system, names) else Fraction(0)
 
 
 def by_chance(seed):

@@ -8,6 +8,14 @@ FUNCTIONS = {
     "systems": {"free_sets": "system"},
     "fitting": {"unfit": "system, world", "fits": "system, world", "fits_groups": "system, world",
                 "fits_loosely": "system, world"},
+    "sums": {"free_sum": "system, names=None", "is_safe": "system, names=None", "least_chance": "system, names=None",
+             "worst": "system", "world_with": "system, chance", "no_way_out": "system"},
+    "given": {"least_given": "system, names, given", "greatest_given": "system, name, given",
+              "limit": "system, name", "room": "system, name, chance", "greatest_scale": "system, bottom"},
+    "papers": {"is_paper": "system, weights", "paper_bound": "system, weights", "is_sheet": "system, weights",
+               "sheet_bound": "system, weights"},
+    "mending": {"too_much": "system, chance=None", "mends": "system, chance=None",
+                "least_cuts": "system, chance=None", "worst_links": "system, chance=None"},
 }
 CLASSES = {
     ("systems", "System"): {
