@@ -2,7 +2,7 @@
 
 from linkedfaults.checks import told_chance
 from linkedfaults.fraction import above
-from linkedfaults.sets import parts
+from linkedfaults.sets import meets, parts
 from linkedfaults.sums import free_sums
 from linkedfaults.systems import System
 
@@ -36,11 +36,6 @@ def least(sets):
         if not any([has_all(some, other) for other in found]):
             found.append(some)
     return found
-
-
-def meets(some, other):
-    """Whether two sets have something in common."""
-    return any([thing in some for thing in other])
 
 
 def least_meeting(things, sets):

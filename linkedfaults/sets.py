@@ -17,3 +17,8 @@ def parts(names):
 def joined(one, other):
     """The set of what is in one of two sets that have nothing in common."""
     return tuple(sorted([*one, *other]))
+
+
+def meets(some, other):
+    """Whether two sets have something in common."""
+    return any([thing in some for thing in other])

@@ -2,7 +2,7 @@
 
 import random
 from fractions import Fraction
-from itertools import combinations
+from itertools import combinations, product
 from math import prod
 
 from linkedfaults.systems import System
@@ -111,3 +111,34 @@ def least_by_words(system, names):
 
 def by_chance(seed):
     return random.Random(seed)
+
+
+def random_coin(chance):
+    """The shares of a coin's sides, also 0 and 1, also with thirty figures."""
+    sides = chance.randint(1, 3)
+    if chance.random() < 0.2:
+        bottom = chance.randint(10 ** 29, 10 ** 30 - 1)
+        tops = [chance.randint(1, bottom // 4) for _ in range(sides - 1)]
+        return [*[(top, bottom) for top in tops], (bottom - sum(tops), bottom)]
+    tops = [chance.choice((0, 1, 1, 2, 3)) for _ in range(sides)]
+    tops[chance.randrange(sides)] += 1
+    return [(top, sum(tops)) for top in tops]
+
+
+def random_fault(chance, coins):
+    """A fault of none to three coins, with as many rows as it comes."""
+    names = chance.sample(sorted(coins), chance.randint(0 if chance.random() < 0.1 else min(1, len(coins)), len(coins)))
+    rows = list(product(*[range(len(coins[name])) for name in names]))
+    often = chance.choice((0.15, 0.3, 0.5))
+    bad = [list(row) for row in rows if chance.random() < often]
+    return (names, bad + chance.choices(bad, k=1) if bad and chance.random() < 0.3 else bad)
+
+
+def some_coins(seed, many, most=5):
+    """Pairs (coins, faults) by chance."""
+    chance = by_chance(seed)
+    for _ in range(many):
+        names = chance.sample(["x", "y", "z", "coin0"], chance.choice((0, 1, 2, 2, 3, 3, 3, 3)))
+        coins = {name: random_coin(chance) for name in names}
+        faults = chance.sample("abcdef", chance.randint(0 if chance.random() < 0.1 else 1, most))
+        yield coins, {name: random_fault(chance, coins) for name in faults}

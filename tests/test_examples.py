@@ -9,7 +9,6 @@ from linkedfaults.systems import System
 
 README = pathlib.Path(__file__).resolve().parent.parent / "README.md"
 
-# What the document shows of rows comes with them.
 EXAMPLES = """
 >>> from linkedfaults.systems import System
 >>> from linkedfaults.sums import free_sum, least_chance, no_way_out, worst
@@ -23,6 +22,9 @@ EXAMPLES = """
 >>> from linkedfaults.given import greatest_given, limit, room
 >>> [greatest_given(house, "b", ["a", "c"]), limit(house, "b"), room(house, "b", (1, 9))]
 [(9, 16), (4, 9), (1, 3)]
+>>> from linkedfaults.rows import Row, fan_limit
+>>> [Row([(1, 4)]).unsafe_at(), Row([(1, 4)]).stay(), Row([(1, 3)]).unsafe_at(), fan_limit(2)]
+[None, (1, 2), 4, (4, 27)]
 """
 
 

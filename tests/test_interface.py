@@ -16,6 +16,9 @@ FUNCTIONS = {
                "sheet_bound": "system, weights"},
     "mending": {"too_much": "system, chance=None", "mends": "system, chance=None",
                 "least_cuts": "system, chance=None", "worst_links": "system, chance=None"},
+    "rows": {"fan_limit": "many", "fan_chance": "share, many, depth"},
+    "coins": {"throws_bound": "system, name"},
+    "texts": {"write": "thing", "read": "text"},
 }
 CLASSES = {
     ("systems", "System"): {
@@ -30,6 +33,18 @@ CLASSES = {
         "chance": "self, happen, stay=()", "none": "self, names=None", "given": "self, stay", "quiet": "names",
         "__getitem__": "self, at", "__len__": "self", "__iter__": "self", "__eq__": "self, other",
         "__mul__": "self, other", "__and__": "self, other"},
+    ("rows", "Row"): {
+        "__init__": "self, shares", "shares": "self", "system": "self, start, count", "chance": "self, start, count",
+        "unsafe_at": "self, start=0", "stay": "self", "is_stay": "self, thing", "__getitem__": "self, at",
+        "__eq__": "self, other"},
+    ("coins", "Coins"): {
+        "__init__": "self, coins, faults", "settings": "self", "happening": "self, setting", "world": "self",
+        "system": "self", "way_out": "self", "throws": "self, order"},
+    ("desks", "Desk"): {
+        "__init__": "self, system", "system": "self", "put": "self, name, share, near=()", "drop": "self, name",
+        "change": "self, name, share", "tie": "self, one, other", "untie": "self, one, other",
+        "watch": "self, word, names", "unwatch": "self, word", "chances": "self", "undo": "self", "again": "self",
+        "trial": "self, work"},
 }
 
 

@@ -22,6 +22,11 @@ NEVER_CAUGHT = {"BaseException", "Exception", "TypeError", "ArithmeticError", "O
                 "NotImplementedError", "AttributeError"}
 
 
+def is_builtin(name):
+    """Whether a name is one of Python's own; doctest leaves _ among them."""
+    return name != "_" and hasattr(builtins, name)
+
+
 def files():
     return sorted(PACKAGE.rglob("*.py"))
 
@@ -56,7 +61,7 @@ class LanguageTest(unittest.TestCase):
         for path in PACKAGE.rglob("*"):
             if "__pycache__" not in path.parts and not path.is_dir():
                 self.assertRegex(path.name, r"\A(__init__|[a-z][a-z0-9_]*)\.py\Z")
-                self.assertFalse(path.stem != "__init__" and hasattr(builtins, path.stem), path)
+                self.assertFalse(path.stem != "__init__" and is_builtin(path.stem), path)
                 self.assertRegex(path.read_bytes().decode("latin-1"), r"\A[ -~\n]*\Z", path)
 
     def test_sizes(self):
@@ -111,7 +116,7 @@ class LanguageTest(unittest.TestCase):
 
     def test_builtins(self):
         for name, node in nodes(ast.Name):
-            if hasattr(builtins, node.id):
+            if is_builtin(node.id):
                 self.assertIn(node.id, BUILTINS, where(name, node))
                 self.assertIsInstance(node.ctx, ast.Load, where(name, node))
         for name, node in nodes(ast.Attribute):
@@ -122,7 +127,7 @@ class LanguageTest(unittest.TestCase):
             taken = {part.name for part in ast.walk(tree) if isinstance(part, (ast.ClassDef, ast.alias))}
             for node in ast.walk(tree):
                 if isinstance(node, ast.FunctionDef):
-                    shadowing = {told for told in bound_in(node) if told in taken or hasattr(builtins, told)}
+                    shadowing = {told for told in bound_in(node) if told in taken or is_builtin(told)}
                     self.assertEqual(shadowing, set(), where(name, node))
         for path in files():
             for word in BARRED:
